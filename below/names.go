@@ -1,0 +1,37 @@
+package below
+
+import (
+	"iter"
+	"slices"
+	"strings"
+)
+
+// shared tells where in two rising rows of names those stand that stand in both.
+func shared(a, b []string) iter.Seq2[int, int] {
+	return func(yield func(int, int) bool) {
+		i, j := 0, 0
+		for i < len(a) && j < len(b) {
+			switch strings.Compare(a[i], b[j]) {
+			case -1:
+				i += ahead(a[i:], b[j])
+			case 1:
+				j += ahead(b[j:], a[i])
+			default:
+				if !yield(i, j) {
+					return
+				}
+				i, j = i+1, j+1
+			}
+		}
+	}
+}
+
+// ahead: how many of a rising row stand ahead of a name. It looks in steps that double, as most often a few do, and in a long row against a short one many.
+func ahead(l []string, name string) int {
+	step := 1
+	for step < len(l) && l[step] < name {
+		step *= 2
+	}
+	n, _ := slices.BinarySearch(l[step/2:min(step, len(l))], name)
+	return step/2 + n
+}

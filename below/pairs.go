@@ -1,0 +1,49 @@
+package below
+
+import "math/bits"
+
+// pair is two heads, of which the one must be below the other one.
+type pair struct{ it, that int }
+
+// side is how many heads in a row make, with as many others in a row, a square of pairs that share a key: two types may have millions of pairs, and a key for each takes long.
+const side = 8
+
+// pairs tells each pair that is put to it, once.
+type pairs struct {
+	squares map[pair]marks // by the first pair of each
+	waiting []pair         // the first pairs of squares in which some wait
+}
+
+// marks tell by a bit for each pair of a square which were put, and which of those wait to be told.
+type marks struct{ put, wait uint64 }
+
+func (l *pairs) put(p pair) {
+	i, j := p.it%side, p.that%side
+	first := pair{p.it - i, p.that - j}
+	bit := uint64(1) << (i*side + j)
+	m := l.squares[first]
+	if m.put&bit != 0 {
+		return
+	}
+	if m.wait == 0 {
+		l.waiting = append(l.waiting, first)
+	}
+	l.squares[first] = marks{m.put | bit, m.wait | bit}
+}
+
+// next: a pair that waits; false, if none does.
+func (l *pairs) next() (pair, bool) {
+	if len(l.waiting) == 0 {
+		return pair{}, false
+	}
+	last := len(l.waiting) - 1
+	first := l.waiting[last]
+	m := l.squares[first]
+	at := bits.TrailingZeros64(m.wait)
+	m.wait &^= 1 << at
+	l.squares[first] = m
+	if m.wait == 0 {
+		l.waiting = l.waiting[:last]
+	}
+	return pair{first.it + at/side, first.that + at%side}, true
+}
