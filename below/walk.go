@@ -1,87 +1,58 @@
 package below
 
-import "azimuth/api"
+import (
+	"azimuth/api"
+	"azimuth/pairs"
+)
 
 // walk goes through all pairs that must hold if its first one does. As long as nothing speaks against any of them, all do.
 type walk struct {
-	heads []api.Head
-	pairs pairs
+	types pairs.Types
+	list  *pairs.List
 }
 
-func (w *walk) holds(it, that int) bool {
-	if !w.ask(it, that) {
+// holds: is one of several types below another one of them?
+func holds(types pairs.Types, one, other int) bool {
+	it, known := types.Root(one)
+	that, knownToo := types.Root(other)
+	if !known || !knownToo {
 		return false
 	}
-	for {
-		p, more := w.pairs.next()
-		if !more {
-			return true
-		}
-		if !w.look(&w.heads[p.it], &w.heads[p.that]) {
-			return false
-		}
-	}
+	w := walk{types, pairs.New()}
+	return w.ask(it, that) && w.list.All(w.look)
 }
 
 // ask: does nothing speak against a pair by its kinds alone? What else there is to look for waits.
-func (w *walk) ask(it, that int) bool {
-	kind, other := w.heads[it].Kind, w.heads[that].Kind
+func (w walk) ask(it, that int) bool {
+	kind, other := w.types.Heads[it].Kind, w.types.Heads[that].Kind
 	if kind == api.TNone || other == api.TAny {
 		return true
 	}
 	if kind == other {
-		w.pairs.put(pair{it, that})
+		w.list.Put(it, that)
 	}
 	return kind == other
 }
 
 // look: does nothing speak against a pair of one kind by names, or by the kinds of kids?
-func (w *walk) look(it, that *api.Head) bool {
+func (w walk) look(one, other int) bool {
+	it, that := &w.types.Heads[one], &w.types.Heads[other]
 	switch it.Kind {
 	case api.TFun:
 		return w.ask(that.Kids[0], it.Kids[0]) && w.ask(it.Kids[1], that.Kids[1])
 	case api.TRecord:
-		return w.record(it, that)
+		both, all := pairs.Shared(it, that, w.ask)
+		return all && both == len(that.Names)
 	case api.TVariant:
 		return w.variant(it, that)
 	}
 	return true // a kind without kids is below itself
 }
 
-func (w *walk) record(it, that *api.Head) bool {
-	both := 0
-	for i, j := range shared(it.Names, that.Names) {
-		if !w.ask(it.Kids[i], that.Kids[j]) {
-			return false
-		}
-		both++
-	}
-	return both == len(that.Names)
-}
-
-func (w *walk) variant(it, that *api.Head) bool {
-	if it.Open && !that.Open {
+func (w walk) variant(it, that *api.Head) bool {
+	if it.Open && !(that.Open && w.types.Anys(it, that)) {
 		return false
 	}
-	both, from := 0, 0
-	for i, j := range shared(it.Names, that.Names) {
-		if !w.ask(it.Kids[i], that.Kids[j]) || it.Open && !w.anys(that.Kids[from:j]) {
-			return false
-		}
-		both, from = both+1, j+1
-	}
-	if both < len(it.Names) && !that.Open {
-		return false
-	}
-	return !it.Open || w.anys(that.Kids[from:])
-}
-
-// anys: does each of some heads mean any? Any is below no other.
-func (w *walk) anys(l []int) bool {
-	for _, i := range l {
-		if w.heads[i].Kind != api.TAny {
-			return false
-		}
-	}
-	return true
+	both, all := pairs.Shared(it, that, w.ask)
+	return all && (that.Open || both == len(it.Names))
 }

@@ -1,10 +1,23 @@
-package below
+package pairs
 
 import (
 	"iter"
 	"slices"
 	"strings"
+
+	"azimuth/api"
 )
+
+// Shared: how many names two heads share, and is what is asked of both kids of such a name so of each?
+func Shared(it, that *api.Head, ask func(it, that int) bool) (names int, all bool) {
+	for i, j := range shared(it.Names, that.Names) {
+		if !ask(it.Kids[i], that.Kids[j]) {
+			return 0, false
+		}
+		names++
+	}
+	return names, true
+}
 
 // shared tells where in two rising rows of names those stand that stand in both.
 func shared(a, b []string) iter.Seq2[int, int] {

@@ -1,15 +1,15 @@
-package below
+package pairs
 
 import "math/bits"
 
-// pair is two heads, of which the one must be below the other one.
+// pair is two heads, of which something must hold.
 type pair struct{ it, that int }
 
 // side is how many heads in a row make, with as many others in a row, a square of pairs that share a key: two types may have millions of pairs, and a key for each takes long.
 const side = 8
 
-// pairs tells each pair that is put to it, once.
-type pairs struct {
+// List tells each pair that is put to it, once.
+type List struct {
 	squares map[pair]marks // by the first pair of each
 	waiting []pair         // the first pairs of squares in which some wait
 }
@@ -17,9 +17,13 @@ type pairs struct {
 // marks tell by a bit for each pair of a square which were put, and which of those wait to be told.
 type marks struct{ put, wait uint64 }
 
-func (l *pairs) put(p pair) {
-	i, j := p.it%side, p.that%side
-	first := pair{p.it - i, p.that - j}
+// New: a list without pairs.
+func New() *List { return &List{squares: map[pair]marks{}} }
+
+// Put puts a pair of heads on the list.
+func (l *List) Put(it, that int) {
+	i, j := it%side, that%side
+	first := pair{it - i, that - j}
 	bit := uint64(1) << (i*side + j)
 	m := l.squares[first]
 	if m.put&bit != 0 {
@@ -31,8 +35,21 @@ func (l *pairs) put(p pair) {
 	l.squares[first] = marks{m.put | bit, m.wait | bit}
 }
 
+// All: does nothing speak against any pair, those too that are put while others are looked at?
+func (l *List) All(look func(it, that int) bool) bool {
+	for {
+		p, more := l.next()
+		if !more {
+			return true
+		}
+		if !look(p.it, p.that) {
+			return false
+		}
+	}
+}
+
 // next: a pair that waits; false, if none does.
-func (l *pairs) next() (pair, bool) {
+func (l *List) next() (pair, bool) {
 	if len(l.waiting) == 0 {
 		return pair{}, false
 	}

@@ -1,0 +1,71 @@
+// Package pairs: pairs of heads of several types, which must all hold for something to hold of two of the types (chapters 9 and 10).
+package pairs
+
+import (
+	"azimuth/api"
+	"azimuth/graph"
+)
+
+// Types are several types, their heads all in one list, so that a pair of heads is told by two numbers, whichever types they are of.
+type Types struct {
+	Heads []api.Head
+	roots []int // of each type its root; none, if it may not be
+}
+
+const none = -1
+
+// Of: so of a row of types.
+func Of(l ...api.Graph) Types {
+	var t Types
+	for _, g := range l {
+		t.add(g)
+	}
+	return t
+}
+
+func (t *Types) add(g api.Graph) {
+	// Of a normal graph no two heads are alike, so the fewest pairs are met.
+	n, e := graph.Normal(g)
+	if e != api.OK {
+		t.roots = append(t.roots, none)
+		return
+	}
+	first := len(t.Heads)
+	t.roots = append(t.roots, first+n.Root)
+	for _, h := range n.L {
+		for k := range h.Kids {
+			h.Kids[k] += first
+		}
+		t.Heads = append(t.Heads, h)
+	}
+}
+
+// Root: the root's number of the i-th type; false, if that may not be.
+func (t Types) Root(i int) (int, bool) {
+	root := t.roots[i]
+	if root == none {
+		return 0, false
+	}
+	return root, true
+}
+
+// Anys: do all names that the other head has, and the one hasn't, have a kid that means any?
+func (t Types) Anys(it, that *api.Head) bool {
+	from := 0
+	for _, j := range shared(it.Names, that.Names) {
+		if !t.any(that.Kids[from:j]) {
+			return false
+		}
+		from = j + 1
+	}
+	return t.any(that.Kids[from:])
+}
+
+func (t Types) any(kids []int) bool {
+	for _, i := range kids {
+		if t.Heads[i].Kind != api.TAny {
+			return false
+		}
+	}
+	return true
+}
