@@ -26,9 +26,9 @@ func shared(a, b []string) iter.Seq2[int, int] {
 		for i < len(a) && j < len(b) {
 			switch strings.Compare(a[i], b[j]) {
 			case -1:
-				i += ahead(a[i:], b[j])
+				i += Ahead(a[i:], b[j])
 			case 1:
-				j += ahead(b[j:], a[i])
+				j += Ahead(b[j:], a[i])
 			default:
 				if !yield(i, j) {
 					return
@@ -39,8 +39,8 @@ func shared(a, b []string) iter.Seq2[int, int] {
 	}
 }
 
-// ahead: how many of a rising row stand ahead of a name. It looks in steps that double, as most often a few do, and in a long row against a short one many.
-func ahead(l []string, name string) int {
+// Ahead: how many of a rising row stand ahead of a name. It looks in steps that double, as most often a few do, and in a long row against a short one many.
+func Ahead(l []string, name string) int {
 	step := 1
 	for step < len(l) && l[step] < name {
 		step *= 2
