@@ -2,10 +2,10 @@ package pairs
 
 import "math/bits"
 
-// pair is two heads, of which something must hold.
+// pair is two heads, or parts, of which something must hold.
 type pair struct{ it, that int }
 
-// side is how many heads in a row make, with as many others in a row, a square of pairs that share a key: two types may have millions of pairs, and a key for each takes long.
+// side is how many in a row make, with as many others in a row, a square of pairs that share a key: two types may have millions of pairs, and a key for each takes long.
 const side = 8
 
 // List tells each pair that is put to it, once.
@@ -20,11 +20,9 @@ type marks struct{ put, wait uint64 }
 // New: a list without pairs.
 func New() *List { return &List{squares: map[pair]marks{}} }
 
-// Put puts a pair of heads on the list.
+// Put puts a pair on the list.
 func (l *List) Put(it, that int) {
-	i, j := it%side, that%side
-	first := pair{it - i, that - j}
-	bit := uint64(1) << (i*side + j)
+	first, bit := square(it, that)
 	m := l.squares[first]
 	if m.put&bit != 0 {
 		return
@@ -33,6 +31,18 @@ func (l *List) Put(it, that int) {
 		l.waiting = append(l.waiting, first)
 	}
 	l.squares[first] = marks{m.put | bit, m.wait | bit}
+}
+
+// Has: was a pair put on the list?
+func (l *List) Has(it, that int) bool {
+	first, bit := square(it, that)
+	return l.squares[first].put&bit != 0
+}
+
+// square: the first pair of that in which a pair is, and its bit there.
+func square(it, that int) (pair, uint64) {
+	i, j := it%side, that%side
+	return pair{it - i, that - j}, 1 << (i*side + j)
 }
 
 // All: does nothing speak against any pair, those too that are put while others are looked at?

@@ -19,6 +19,29 @@ func Shared(it, that *api.Head, ask func(it, that int) bool) (names int, all boo
 	return names, true
 }
 
+// Others tells the kids that the other head has for names that the one hasn't.
+func Others(it, that *api.Head) iter.Seq[int] {
+	return func(yield func(int) bool) {
+		from := 0
+		for _, j := range shared(it.Names, that.Names) {
+			if !all(that.Kids[from:j], yield) {
+				return
+			}
+			from = j + 1
+		}
+		all(that.Kids[from:], yield)
+	}
+}
+
+func all(kids []int, yield func(int) bool) bool {
+	for _, kid := range kids {
+		if !yield(kid) {
+			return false
+		}
+	}
+	return true
+}
+
 // shared tells where in two rising rows of names those stand that stand in both.
 func shared(a, b []string) iter.Seq2[int, int] {
 	return func(yield func(int, int) bool) {

@@ -97,6 +97,61 @@ func TestAnys(t *testing.T) {
 	}
 }
 
+// The other head's kids are told, in order, of names that the one hasn't; as long as they are asked for.
+func TestOthers(t *testing.T) {
+	for i := range 3000 {
+		chance := rand.New(rand.NewSource(int64(i)))
+		it, that := named(chance, 10), named(chance, 10)
+		var want []int
+		for k, name := range that.Names {
+			if !slices.Contains(it.Names, name) {
+				want = append(want, that.Kids[k])
+			}
+		}
+		for stop := range len(want) + 1 {
+			var got []int
+			for kid := range pairs.Others(&it, &that) {
+				got = append(got, kid)
+				if len(got) == stop {
+					break
+				}
+			}
+			if stop == 0 && !slices.Equal(got, want) || stop > 0 && !slices.Equal(got, want[:stop]) {
+				t.Errorf("%v, %v, till %d: %v", it, that, stop, got)
+			}
+		}
+	}
+}
+
+// A list has the pairs that were put to it, and no others, whether they wait or were told.
+func TestHas(t *testing.T) {
+	for i := range 200 {
+		chance := rand.New(rand.NewSource(int64(i)))
+		list, put := pairs.New(), map[[2]int]bool{}
+		look := func() {
+			for i := range 24 {
+				for j := range 24 {
+					if list.Has(i, j) != put[[2]int{i, j}] {
+						t.Errorf("%d, %d: %v", i, j, list.Has(i, j))
+					}
+				}
+			}
+		}
+		look()
+		for range 3 {
+			for range chance.Intn(60) {
+				i, j := chance.Intn(24), chance.Intn(24)
+				list.Put(i, j)
+				put[[2]int{i, j}] = true
+			}
+			look()
+			left := chance.Intn(20)
+			list.All(func(int, int) bool { left--; return left > 0 })
+			look()
+		}
+	}
+}
+
 // Each pair is told once, however often it is put, those too that are put while others are looked at.
 func TestAll(t *testing.T) {
 	if !pairs.New().All(func(int, int) bool { return false }) {

@@ -1,4 +1,4 @@
-// Package pairs: pairs of heads of several types, which must all hold for something to hold of two of the types (chapters 9 and 10).
+// Package pairs: pairs of heads of several types, which must all hold for something to hold of two of the types (chapters 9 and 10), or of parts of an arena, of which all that follows must hold (chapter 13).
 package pairs
 
 import (
@@ -51,19 +51,8 @@ func (t Types) Root(i int) (int, bool) {
 
 // Anys: do all names that the other head has, and the one hasn't, have a kid that means any?
 func (t Types) Anys(it, that *api.Head) bool {
-	from := 0
-	for _, j := range shared(it.Names, that.Names) {
-		if !t.any(that.Kids[from:j]) {
-			return false
-		}
-		from = j + 1
-	}
-	return t.any(that.Kids[from:])
-}
-
-func (t Types) any(kids []int) bool {
-	for _, i := range kids {
-		if t.Heads[i].Kind != api.TAny {
+	for kid := range Others(it, that) {
+		if t.Heads[kid].Kind != api.TAny {
 			return false
 		}
 	}
