@@ -292,6 +292,9 @@ func (x *two) asAnew(what string) {
 	if n := x.Len(); n != len(w.parts) {
 		x.t.Fatalf("%s: Len %d; it is %d", what, n, len(w.parts))
 	}
+	if n := x.Room(); n != w.most-len(w.parts) {
+		x.t.Fatalf("%s: Room %d, with %d parts of %d", what, n, len(w.parts), w.most)
+	}
 	for i, p := range w.parts {
 		x.partAsAnew(what, i, p)
 	}

@@ -452,8 +452,55 @@ func TestNil(t *testing.T) {
 	if n := a.Len(); n != 0 {
 		t.Error(n)
 	}
+	if n := a.Room(); n != 0 {
+		t.Error(n)
+	}
 	for i, h := range a.Parts() {
 		t.Error(i, h)
+	}
+}
+
+// Room: as many parts go in as it tells, whatever they are, and then no more; what goes wrong leaves it as it is.
+func TestRoom(t *testing.T) {
+	for _, n := range []int{1, 2, 3, 7, 4096, api.MaxArena} {
+		a, _ := arena.New(n)
+		room := n
+		told := func(what string) {
+			t.Helper()
+			if got := a.Room(); got != room {
+				t.Fatalf("of %d, %s: %d; it is %d", n, what, got, room)
+			}
+		}
+		told("without parts")
+		a.Var(-1)
+		a.Head(api.Head{Kind: api.TFun})
+		a.Graph(api.Graph{})
+		told("behind what can't be")
+		for _, graph := range []api.Graph{made(0, "> 1 2", "i", "s"), made(0, "> 1 1", "i"), made(0, "f")} {
+			if k := len(graph.L); k <= room {
+				room -= k
+				a.Graph(graph)
+			}
+			told("behind a graph")
+			if len(graph.L) > room {
+				a.Graph(graph)
+				told("behind a graph that is too great")
+			}
+		}
+		for room > 0 {
+			if room--; room%2 == 0 {
+				a.Var(1)
+			} else {
+				a.Head(api.Head{Kind: api.TRecord})
+			}
+			told("behind a part")
+		}
+		a.Var(0)
+		a.Head(api.Head{Kind: api.TInt})
+		told("full")
+	}
+	if n := (&arena.Arena{}).Room(); n != 0 {
+		t.Error("of one that nothing made:", n)
 	}
 }
 

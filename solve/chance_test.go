@@ -208,7 +208,7 @@ func TestRoomByChance(t *testing.T) {
 				var made []claim
 				last := api.OK
 				for _, x := range anyClaims(chance, n) {
-					was := toldOf(a)
+					was := roomyOf(a)
 					e := s.Claim(x.below, x.above)
 					met[e]++
 					if last == api.OK {
@@ -220,15 +220,14 @@ func TestRoomByChance(t *testing.T) {
 						if e == api.OK {
 							made = append(made, x)
 						}
-						if e == api.ErrLimit && a.Len() < n+room {
-							t.Fatalf("scene %d: there is room for %d of %d", number, n+room-a.Len(), room)
-						}
 					}
 					_, _, clash := s.Clash()
 					if e != last || s.Claims() != len(made) || clash != (e == api.ErrClash) {
 						t.Fatalf("scene %d, behind %d: %d, %d claims, not %d", number, last, e, s.Claims(), len(made))
 					}
-					if is := toldOf(a); e != api.OK && !equal(was, is[:len(was)]) {
+					if e == api.ErrLimit {
+						was.asWas(t, a, "scene", number, room)
+					} else if is := toldOf(a); e != api.OK && !equal(was.parts, is[:len(was.parts)]) {
 						t.Fatalf("scene %d: parts or bounds changed behind %d", number, e)
 					}
 				}

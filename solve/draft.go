@@ -5,7 +5,7 @@ import (
 	"azimuth/arena"
 )
 
-// draft is an arena, with parts and bounds that aren't put there yet: a claim from which a clash follows leaves none behind.
+// draft is an arena, with parts and bounds that aren't put there yet: a claim from which a clash follows, or for which there is no room, leaves none behind.
 type draft struct {
 	*arena.Arena
 	first  int // the number of the first part that isn't there yet
@@ -35,8 +35,8 @@ type bound struct {
 // begin: nothing is to be put.
 func (d *draft) begin() { *d = draft{Arena: d.Arena, first: d.Arena.Len(), sides: map[side][]int{}} }
 
-// full: are there more parts than any arena has room for?
-func (d *draft) full() bool { return d.first+len(d.parts) > api.MaxArena }
+// full: are there more parts than the arena has room for?
+func (d *draft) full() bool { return len(d.parts) > d.Arena.Room() }
 
 // IsVar: is a part a variable?
 func (d *draft) IsVar(i int) bool {
@@ -83,16 +83,13 @@ func (d *draft) bind(x side, by int) {
 	d.sides[x] = append(d.sides[x], by)
 }
 
-// put puts all in the arena.
+// put puts all in the arena; where there is no room for all, nothing.
 func (d *draft) put() api.Errno {
 	if d.full() {
 		return api.ErrLimit
 	}
-	// Bounds come last: where there is no room for all parts, those that were there know nothing of the new ones.
 	for _, p := range d.parts {
-		if e := d.putPart(p); e != api.OK {
-			return e
-		}
+		d.putPart(p)
 	}
 	for _, b := range d.bounds {
 		d.Arena.Bound(b.of, b.by, b.above)
@@ -101,12 +98,10 @@ func (d *draft) put() api.Errno {
 	return api.OK
 }
 
-func (d *draft) putPart(p part) api.Errno {
-	var e api.Errno
+func (d *draft) putPart(p part) {
 	if p.variable {
-		_, e = d.Arena.Var(p.level)
+		d.Arena.Var(p.level)
 	} else {
-		_, e = d.Arena.Head(p.head)
+		d.Arena.Head(p.head)
 	}
-	return e
 }

@@ -59,7 +59,11 @@ func TestRoom(t *testing.T) {
 			}
 			last, made := api.OK, 0
 			for _, c := range x.claims {
+				was := roomyOf(w.Arena)
 				e := w.solver.Claim(w.part(c[0]), w.part(c[1]))
+				if e != api.OK {
+					was.asWas(t, w.Arena, x, room, c)
+				}
 				if e == api.OK {
 					made++
 				}

@@ -333,7 +333,7 @@ func roomFor(t *testing.T, text string, above bool, room int) (*world, int) {
 	return w, fill(w)
 }
 
-// P13.2: room for just as much as is asked for, and for less: then nothing that was there has a bound more.
+// P13.2, R3: room for just as much as is asked for, and for less: then the arena is as it was.
 func TestRaiseRoom(t *testing.T) {
 	for text, asks := range map[string]int{
 		"V2": 2, "{a: V2}": 3, "{a: V2, b: W2}": 4, "V2 -> V2": 4, "{a: V2} -> {a: V2}": 6, "{a: V2, b: W1, c: {}}": 3, "{a: {b: V2}, c: {b: V2}}": 5, "{b: V2 -> int}": 3,
@@ -345,13 +345,12 @@ func TestRaiseRoom(t *testing.T) {
 					raise(t, w.Arena, i, 1, up)
 					continue
 				}
-				was := toldOf(w.Arena)
+				was := roomyOf(w.Arena)
 				if by, e := solve.Raise(w.Arena, i, 1, up); by != 0 || e != api.ErrLimit {
 					t.Errorf("%s, up %v, room for %d of %d: %d, %d", text, up, room, asks, by, e)
 				}
-				if is := toldOf(w.Arena); !equal(was, is[:len(was)]) {
-					t.Errorf("%s, up %v, room for %d: parts or bounds changed", text, up, room)
-				}
+				was.asWas(t, w.Arena, text, up, room)
+				fill(t, w.Arena, room, text, up, room)
 			}
 		}
 	}
